@@ -1,0 +1,1 @@
+"""Shelfmark: marks for a shelf that always leave room."""
