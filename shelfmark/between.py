@@ -5,10 +5,8 @@ from shelfmark.rooms import ask_room, ends_of, high_whole_of, nth_mark
 from shelfmark.rooms import owned_ahead_of_high, owned_up_to_low, room_at
 
 
-def least_long(letters, hands, hand, low, high, many):
-    """The least length at which the room between low and high is at least so many."""
-    ask_room(low, high)
-    ends = ends_of(letters, hands, hand)
+def least_counted(letters, ends, low, high, many, beginnings):
+    """The least length at which counted_at of these finds at least so many."""
     long = 0
     room = 0
     low_whole = 0
@@ -19,9 +17,15 @@ def least_long(letters, hands, hand, low, high, many):
         low_whole = low_whole * letters + figure_at(low, long)
         high_whole = high_whole * letters + figure_at(high, long)
         long = long + 1
-        ahead = owned_ahead_of_high(letters, ends, high, high_whole, long)
+        ahead = owned_ahead_of_high(letters, ends, high, high_whole, long, beginnings)
         room = ahead - owned_up_to_low(letters, ends, low_whole)
     return long
+
+
+def least_long(letters, hands, hand, low, high, many):
+    """The least length at which the room between low and high is at least so many."""
+    ask_room(low, high)
+    return least_counted(letters, ends_of(letters, hands, hand), low, high, many, True)
 
 
 def told_number(low, high, many):

@@ -37,22 +37,32 @@ def owned_up_to_low(letters, ends, low_whole):
     return owned_below(letters, ends, low_whole + 1)
 
 
-def owned_ahead_of_high(letters, ends, high, high_whole, long):
-    """How many marks of a length, with these ends, come ahead of high, by its whole there."""
+def owned_ahead_of_high(letters, ends, high, high_whole, long, beginnings):
+    """How many marks of a length, with these ends, come ahead of high, by its whole there.
+
+    Beginnings says whether high's own beginnings are counted too.
+    """
     # High's own beginning has the same whole as high there, and yet comes ahead of it.
-    if high is not None and long < len(high):
+    if beginnings and high is not None and long < len(high):
         return owned_below(letters, ends, high_whole + 1)
     return owned_below(letters, ends, high_whole)
+
+
+def counted_at(letters, ends, low, high, long, beginnings):
+    """How many marks of just so many letters, with these ends, lie between low and high.
+
+    Without high's beginnings it is -1 where low and high begin with the same mark of that length.
+    """
+    low_whole = whole_of(letters, low, long)
+    high_whole = high_whole_of(letters, high, long)
+    ahead = owned_ahead_of_high(letters, ends, high, high_whole, long, beginnings)
+    return ahead - owned_up_to_low(letters, ends, low_whole)
 
 
 def room_at(letters, hands, hand, low, high, long):
     """How many of the hand's marks of just so many letters lie between low and high."""
     ask_room(low, high)
-    ends = ends_of(letters, hands, hand)
-    low_whole = whole_of(letters, low, long)
-    high_whole = high_whole_of(letters, high, long)
-    ahead = owned_ahead_of_high(letters, ends, high, high_whole, long)
-    return ahead - owned_up_to_low(letters, ends, low_whole)
+    return counted_at(letters, ends_of(letters, hands, hand), low, high, long, True)
 
 
 def nth_mark(letters, hands, hand, low, high, long, number):

@@ -23,6 +23,10 @@ OWN_NAMES = (
 WORDS = (
     "type typing typing_extensions enum Enum IntEnum StrEnum Flag IntFlag Generic Protocol ABC ABCMeta "
     "namedtuple NamedTuple TypedDict TYPE_CHECKING abstractmethod").split()
+METHODS = (
+    "append clear copy count endswith extend find get index insert isalnum isalpha isdigit islower isspace "
+    "isupper items join keys ljust lower lstrip partition pop remove replace reverse rfind rjust rpartition "
+    "rsplit rstrip setdefault split splitlines startswith strip update upper values zfill bit_length").split()
 
 
 def trees():
@@ -83,6 +87,27 @@ class Language(unittest.TestCase):
                 self.assertIsInstance(node.ctx, ast.Load, (name, node.lineno))
         for name, node in nodes(ast.arg):
             self.assertNotIn(node.arg, dir(builtins), (name, node.lineno))
+
+    def test_methods_called_are_known_ones(self):
+        own = {node.name for name, node in nodes(ast.FunctionDef)}
+        for name, node in nodes(ast.Call):
+            if isinstance(node.func, ast.Attribute):
+                self.assertIn(node.func.attr, own | set(METHODS), (name, node.lineno))
+
+    def test_no_name_is_a_method_and_a_value(self):
+        methods = {part.name for name, node in nodes(ast.ClassDef) for part in node.body
+                   if isinstance(part, ast.FunctionDef)}
+        values = {node.attr for name, node in nodes(ast.Attribute) if isinstance(node.ctx, ast.Store)}
+        self.assertEqual(methods & values, set())
+
+    def test_no_local_is_called_like_an_import_of_its_file(self):
+        for name, tree in trees():
+            imports = {alias.name for node in ast.walk(tree) if isinstance(node, ast.ImportFrom)
+                       for alias in node.names}
+            stored = {node.id for node in ast.walk(tree)
+                      if isinstance(node, ast.Name) and isinstance(node.ctx, ast.Store)}
+            params = {node.arg for node in ast.walk(tree) if isinstance(node, ast.arg)}
+            self.assertEqual(imports & (stored | params), set(), name)
 
     def test_imports_are_the_packages_own(self):
         for name, node in nodes(ast.ImportFrom):
