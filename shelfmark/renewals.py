@@ -52,11 +52,19 @@ def first_new(rows):
     return None
 
 
-def carried(letters, rows, mark):
-    """What a mark is carried to by the renewal of these rows, None where it is let go."""
+def carried_knowing(letters, rows, mark, stems):
+    """As carried; stems is a dict of the stems found so far, by low and high, and takes on new ones."""
     place = rows_ahead(rows, mark)
     if place < len(rows) and rows[place][0] == mark:
         return rows[place][1]
     low = first_new(list(reversed(rows[:place])))
     high = first_new(rows[place:])
-    return stem_between(letters, low, high) + mark
+    # Kept, since renewals of as many things have the same new marks, and so the same stems.
+    if (low, high) not in stems:
+        stems[(low, high)] = stem_between(letters, low, high)
+    return stems[(low, high)] + mark
+
+
+def carried(letters, rows, mark):
+    """What a mark is carried to by the renewal of these rows, None where it is let go."""
+    return carried_knowing(letters, rows, mark, {})

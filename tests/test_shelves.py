@@ -7,12 +7,7 @@ from shelfmark.errors import NoLetters, NoPlace, NoThing
 from shelfmark.letters import is_mark
 from shelfmark.runs import renewed, renewed_long, run_between
 from shelfmark.shelves import Shelf
-
-FAR = 10 ** 60 - 1
-FARTHER = 7 ** 9000
-GOOD_SIGNS = "abcdefghijklmnopqrstuvwxyz0123456789"
-BAD_SIGNS = [chr(number) for number in range(32, 127) if chr(number) not in GOOD_SIGNS] + ["\n", "\r"]
-BAD_THINGS = ["", "x" * 13, "1" * 13, "x" * 300, "X", "xX", "Xx", "x y", " x", "x ", "x\n", "\n", "x\ny", "-", "x_"]
+from tests.inputs import BAD_SIGNS, BAD_THINGS, FAR, FARTHER, GOOD_SIGNS
 
 
 def shown(shelf):
